@@ -1,0 +1,100 @@
+"""What holds everywhere [2]: nothing handed in is changed or kept, told lists are the asker's own."""
+
+import unittest
+
+from tests.helping import EMPTY, PATH, SCATTERED, TRIANGLE, alike, chance_webs, copied, lists_in
+from touchall.errors import TouchError
+from touchall.parts import beside, parts, without
+from touchall.sets import cost_of, is_set, lean, left_by, needless
+from touchall.webs import look_at_web, near, places_of, price_of
+
+SHARED = []
+BAD_WEBS = [([(1, 1), (1, 1)], []), ([(1, 1)], [(1, 1)]), ([[1, 1]], []), [[], []], None]
+
+
+def some_of(web):
+    return [place for place, _ in web[0]][::2]
+
+
+def calls_on(web):
+    some = some_of(web)
+    whole = [place for place, _ in web[0]]
+    far = ([(place + 1 if place % 2 == 0 else place - 1, 1) for place in whole[:1]], [])
+    told = [(look_at_web, (web,)), (places_of, (web,)), (parts, (web,)), (without, (web, some + some)),
+            (without, (web, [])), (beside, (web, EMPTY)), (beside, (EMPTY, web)), (beside, (web, web)),
+            (beside, (web, far)), (without, (web, whole + [[1]])), (is_set, (web, some)), (is_set, (web, None)),
+            (near, (web, [1])), (price_of, (web, None))]
+    for place in whole[:3]:
+        told += [(near, (web, place)), (price_of, (web, place))]
+    for given in (some, whole, [], whole[::-1], [[1]]):
+        told += [(ask, (web, given)) for ask in (left_by, cost_of, needless, lean)]
+    return told
+
+
+def all_calls():
+    webs = [EMPTY, PATH, TRIANGLE, SCATTERED, (SHARED, SHARED), ([(3, 4)], [])] + chance_webs(40) + BAD_WEBS
+    calls = []
+    for web in webs:
+        calls += calls_on(web) if web not in BAD_WEBS else refused_calls(web)
+    return calls
+
+
+def refused_calls(web):
+    return [(look_at_web, (web,)), (places_of, (web,)), (parts, (web,)), (without, (web, [1])),
+            (beside, (web, PATH)), (beside, (PATH, web)), (near, (web, 1)), (price_of, (web, 1)),
+            (is_set, (web, [])), (left_by, (web, [])), (cost_of, (web, [])), (needless, (web, [])), (lean, (web, []))]
+
+
+def fields_of(error):
+    return (type(error).__name__, dict(vars(error)))
+
+
+def answer(ask, given):
+    try:
+        return ("told", ask(*given))
+    except TouchError as error:
+        return ("refused", fields_of(error))
+
+
+class TestEverywhere(unittest.TestCase):
+    def test_what_is_handed_in_stays_as_it_was(self):
+        for ask, given in all_calls():
+            ahead = copied(given)
+            answer(ask, given)
+            self.assertTrue(alike(given, ahead), ask.__name__)
+
+    def test_asked_twice_alike_is_told_alike(self):
+        for ask, given in all_calls():
+            self.assertTrue(alike(answer(ask, given), answer(ask, copied(given))), ask.__name__)
+
+    def test_told_lists_are_new_and_shared_by_no_two_places(self):
+        for ask, given in all_calls():
+            kind, told = answer(ask, given)
+            if kind == "told":
+                found = [id(one) for one in lists_in(told)]
+                self.assertEqual(len(found), len(set(found)), ask.__name__)
+                self.assertFalse(set(found) & {id(one) for one in lists_in(given)}, ask.__name__)
+
+    def test_changed_told_lists_change_no_later_answer(self):
+        for ask, given in all_calls():
+            kind, told = answer(ask, given)
+            if kind == "told":
+                first = copied(told)
+                for one in lists_in(told):
+                    one.clear()
+                    one.append("spoilt")
+                self.assertTrue(alike(answer(ask, given), ("told", first)), ask.__name__)
+
+    def test_what_is_done_to_what_was_handed_in_changes_no_answer(self):
+        for ask, given in all_calls():
+            mine = copied(given)
+            kind, told = answer(ask, mine)
+            if kind == "told":
+                first = copied(told)
+                for one in lists_in(mine):
+                    one.clear()
+                self.assertTrue(alike(told, first), ask.__name__)
+
+
+if __name__ == "__main__":
+    unittest.main()
