@@ -5,7 +5,10 @@ import unittest
 from tests.helping import EMPTY, PATH, SCATTERED, TRIANGLE, alike, chance_webs, copied, lists_in
 from touchall.errors import TouchError
 from touchall.parts import beside, parts, without
+from touchall.rows import bound_of, look_at_rows, worth_of
 from touchall.sets import cost_of, is_set, lean, left_by, needless
+from touchall.texts import read_web, written_web
+from touchall.tight import is_tight
 from touchall.webs import look_at_web, near, places_of, price_of
 
 SHARED = []
@@ -28,6 +31,17 @@ def calls_on(web):
         told += [(near, (web, place)), (price_of, (web, place))]
     for given in (some, whole, [], whole[::-1], [[1]]):
         told += [(ask, (web, given)) for ask in (left_by, cost_of, needless, lean)]
+    text = written_web(web)
+    told += [(written_web, (web,)), (read_web, (text,)), (read_web, (text + "\n",)), (read_web, ([text],))]
+    return told + calls_with_rows(web, some)
+
+
+def calls_with_rows(web, some):
+    rows = [("all", list(tie), 1) for tie in web[1]]
+    told = []
+    for given in (rows, rows + [("all", list(reversed(tie)), 1) for tie in web[1]], rows * 9, [None], [[]], None, []):
+        told += [(ask, (web, given)) for ask in (look_at_rows, worth_of, bound_of)]
+        told += [(is_tight, (web, given, some)), (is_tight, (web, given, [[1]]))]
     return told
 
 
@@ -42,7 +56,9 @@ def all_calls():
 def refused_calls(web):
     return [(look_at_web, (web,)), (places_of, (web,)), (parts, (web,)), (without, (web, [1])),
             (beside, (web, PATH)), (beside, (PATH, web)), (near, (web, 1)), (price_of, (web, 1)),
-            (is_set, (web, [])), (left_by, (web, [])), (cost_of, (web, [])), (needless, (web, [])), (lean, (web, []))]
+            (is_set, (web, [])), (left_by, (web, [])), (cost_of, (web, [])), (needless, (web, [])), (lean, (web, [])),
+            (written_web, (web,)), (look_at_rows, (web, [])), (worth_of, (web, [])), (bound_of, (web, [])),
+            (is_tight, (web, [], []))]
 
 
 def fields_of(error):

@@ -68,6 +68,10 @@ def called(node):
     return node.func.id if isinstance(node, ast.Call) and isinstance(node.func, ast.Name) else None
 
 
+def method(node):
+    return node.func.attr if isinstance(node, ast.Call) and isinstance(node.func, ast.Attribute) else None
+
+
 def is_docstring(node, parents):
     above = parents.get(node)
     return isinstance(above, ast.Module) and above.body[0] is node and isinstance(node.value, ast.Constant)
@@ -189,8 +193,8 @@ class TestLanguage(unittest.TestCase):
                    for part in node.body if isinstance(part, ast.FunctionDef)}
         for path, tree in self.each():
             for node in ast.walk(tree):
-                if isinstance(node, ast.Call) and isinstance(node.func, ast.Attribute):
-                    self.assertIn(node.func.attr, OWN_METHODS | methods)
+                if method(node) is not None:
+                    self.assertIn(method(node), OWN_METHODS | methods)
                 if called(node) in OWN_NAMES:
                     self.assertLessEqual({word.arg for word in node.keywords}, KEYWORDS.get(called(node), set()))
 
@@ -198,8 +202,7 @@ class TestLanguage(unittest.TestCase):
         for path, tree in self.each():
             parents = parents_of(tree)
             for node in ast.walk(tree):
-                attribute = node.func.attr if isinstance(node, ast.Call) and isinstance(node.func, ast.Attribute) else ""
-                if called(node) in WALKED_AT_ONCE or attribute in ("items", "keys", "values"):
+                if called(node) in WALKED_AT_ONCE or method(node) in ("items", "keys", "values"):
                     above = parents[node]
                     walked = isinstance(above, (ast.For, ast.comprehension)) and above.iter is node
                     self.assertTrue(walked or called(above) in WALKERS, f"{path.name}:{node.lineno}")
