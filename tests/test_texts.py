@@ -84,7 +84,8 @@ class TestBlanksAndLineFeeds(TextCase):
 class TestWords(TextCase):
     def test_words(self):
         for row in ("place", "place 1", "place 1 5 5", "place 1 5 tie", "Place 1 5", "PLACE 1 5", "places 1 5",
-                    "plac 1 5", "1 5", "1 place 5", "spot 1 5", "5", "~", "place place 5", "place 1 price", "-", "web 1 5"):
+                    "plac 1 5", "1 5", "1 place 5", "spot 1 5", "5", "~", "place place 5", "place 1 price", "-",
+                    "web 1 5"):
             self.refused(row, 0)
             self.refused("place 0 1\n" + row, 1)
         for row in ("tie", "tie 0", "tie 0 1 2", "Tie 0 1", "ties 0 1", "ti 0 1", "0 1", "tie tie 1",
