@@ -95,3 +95,175 @@ def line_of(many, price=1):
 def full_ties(many, count):
     """The first so many ties of a web of so many places, sorted."""
     return list(itertools.combinations(range(many), 2))[:count]
+
+
+def touching_sets(web):
+    return [some for some in all_sets(web) if touches(web, some)]
+
+
+def least_sets(web):
+    found = touching_sets(web)
+    least = min(cost(web, some) for some in found)
+    return [some for some in found if cost(web, some) == least]
+
+
+def all_halves(web):
+    """Every row of noughts, halves and ones that are halves of the web, as dicts."""
+    numbers = [place for place, _ in web[0]]
+    for row in itertools.product((0, 1, 2), repeat=len(numbers)):
+        halves = dict(zip(numbers, row))
+        if all(halves[one] + halves[other] >= 2 for one, other in web[1]):
+            yield halves
+
+
+def halved_cost(web, halves):
+    return sum(price * halves[place] for place, price in web[0])
+
+
+def cheapest_halves(web):
+    found = list(all_halves(web))
+    least = min(halved_cost(web, halves) for halves in found)
+    return [halves for halves in found if halved_cost(web, halves) == least]
+
+
+def alike_in_all(web):
+    """Of each place the nought or the one that all cheapest halves have there, else a half."""
+    rows = cheapest_halves(web)
+    told = []
+    for place, _ in web[0]:
+        met = {row[place] for row in rows}
+        told.append((place, min(met) if met in ({0}, {2}) else 1))
+    return told
+
+
+def is_number(thing):
+    return isinstance(thing, int) and not isinstance(thing, bool)
+
+
+def are_numbers(things, many):
+    return isinstance(things, tuple) and len(things) == many and all(is_number(thing) for thing in things)
+
+
+def paper_reads(web, thing):
+    """A plain reading of what is let by as a paper of halves."""
+    if not isinstance(thing, tuple) or len(thing) != 2 or not all(isinstance(part, list) for part in thing):
+        return False
+    halves, dues = thing
+    if not all(are_numbers(pair, 2) for pair in halves) or not all(are_numbers(due, 3) for due in dues):
+        return False
+    if [place for place, _ in halves] != [place for place, _ in web[0]] or any(h not in (0, 1, 2) for _, h in halves):
+        return False
+    told = dict(halves)
+    if any(told[one] + told[other] < 2 for one, other in web[1]):
+        return False
+    ties = [due[:2] for due in dues]
+    if ties != sorted(set(ties)) or any(tie not in web[1] for tie in ties) or any(due[2] < 1 for due in dues):
+        return False
+    if any(sum(due[2] for due in dues if place in due[:2]) > 2 * price for place, price in web[0]):
+        return False
+    return sum(due[2] for due in dues) == halved_cost(web, told)
+
+
+def spoilt(thing):
+    """The thing missed by one: at each place within it, in many ways."""
+    told = [None, "x", [thing], (thing,), {}, OTHER]
+    if isinstance(thing, (list, tuple)):
+        kind = type(thing)
+        told.append(tuple(thing) if kind is list else list(thing))
+        for at in range(len(thing)):
+            told.append(thing[:at] + thing[at + 1:])
+            told.append(thing[:at + 1] + thing[at:])
+            if at:
+                told.append(thing[:at - 1] + kind([thing[at], thing[at - 1]]) + thing[at + 1:])
+            told += [thing[:at] + kind([part]) + thing[at + 1:] for part in spoilt(thing[at])]
+        told.append(thing + kind([0]))
+    elif is_number(thing):
+        told += [thing + 1, thing - 1, -thing, str(thing), True, False, [], 10 ** 59]
+    elif isinstance(thing, str):
+        told += ["", thing + "s", thing[:-1], thing.upper(), [thing], 0]
+    return told
+
+
+def nears_of(web):
+    return {place: {b if a == place else a for a, b in web[1] if place in (a, b)} for place, _ in web[0]}
+
+
+def less_places(web, gone):
+    return ([pair for pair in web[0] if pair[0] not in gone],
+            [tie for tie in web[1] if tie[0] not in gone and tie[1] not in gone])
+
+
+def repriced(web, place, price):
+    return ([(p, price if p == place else q) for p, q in web[0]], list(web[1]))
+
+
+def step_reads(web, step):
+    """A plain reading of what a step tells: the smaller web and the added, or None where it doesn't fit."""
+    if not isinstance(step, tuple) or not step or not isinstance(step[0], str):
+        return None
+    word, rest = step[0], step[1:]
+    prices, nears = dict(web[0]), nears_of(web)
+    if word == "halves":
+        if len(rest) != 1 or not paper_reads(web, rest[0]) or all(h == 1 for _, h in rest[0][0]):
+            return None
+        gone = [place for place, h in rest[0][0] if h != 1]
+        return less_places(web, gone), sum(prices[place] for place, h in rest[0][0] if h == 2)
+    if any(not is_number(place) or place not in prices for place in rest):
+        return None
+    return rule_reads(web, step, (prices, nears))
+
+
+def rule_reads(web, step, known):
+    word, rest = step[0], step[1:]
+    if word in ("lone", "near", "leaf", "fold") and len(rest) == 1:
+        return one_reads(web, word, rest[0], *known)
+    if word in ("over", "twins") and len(rest) == 2:
+        return two_reads(web, word, rest[0], rest[1], *known)
+    return None
+
+
+def one_reads(web, word, v, prices, nears):
+    together = sum(prices[place] for place in nears[v])
+    if word == "lone" and not nears[v]:
+        return less_places(web, [v]), 0
+    if word == "near" and nears[v] and together <= prices[v]:
+        return less_places(web, {v} | nears[v]), together
+    if word == "leaf" and len(nears[v]) == 1:
+        u = min(nears[v])
+        if prices[u] > prices[v]:
+            return repriced(less_places(web, [v]), u, prices[u] - prices[v]), prices[v]
+    if word == "fold" and len(nears[v]) >= 2:
+        if any(pair in web[1] for pair in itertools.combinations(sorted(nears[v]), 2)):
+            return None
+        if together > prices[v] and together - min(prices[place] for place in nears[v]) <= prices[v]:
+            left = less_places(web, nears[v])
+            drawn = {tuple(sorted((v, far))) for place in nears[v] for far in nears[place] if far != v}
+            return repriced((left[0], sorted(left[1] + list(drawn))), v, together - prices[v]), prices[v]
+    return None
+
+
+def two_reads(web, word, u, v, prices, nears):
+    if word == "over" and v in nears[u] and nears[u] - {v} <= nears[v] and prices[v] <= prices[u]:
+        return less_places(web, [v]), prices[v]
+    if word == "twins" and u != v and v not in nears[u] and nears[u] and nears[u] == nears[v]:
+        return repriced(less_places(web, [v]), u, prices[u] + prices[v]), 0
+    return None
+
+
+def step_tries(web):
+    """Every tuple of the first six words and places of the web, of one word sorted."""
+    numbers = [place for place, _ in web[0]]
+    for word in ("lone", "near", "leaf", "over", "twins", "fold"):
+        if word in ("over", "twins"):
+            yield from ((word, u, v) for u in numbers for v in numbers)
+        else:
+            yield from ((word, v) for v in numbers)
+
+
+def refusal(ask, *given):
+    """The refusal's class and fields, or None where something is told."""
+    try:
+        ask(*given)
+    except ValueError as error:
+        return (type(error), dict(vars(error)))
+    return None

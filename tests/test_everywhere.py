@@ -2,11 +2,15 @@
 
 import unittest
 
-from tests.helping import EMPTY, PATH, SCATTERED, TRIANGLE, alike, chance_webs, copied, lists_in
+from tests.helping import (EMPTY, PATH, SCATTERED, TRIANGLE, alike, chance_webs, copied, lists_in, step_reads,
+                           step_tries)
 from touchall.errors import TouchError
+from touchall.fixed import fixed_by, fixed_of, fixed_paper, lets_fixed
+from touchall.halves import halves_cost, halves_of, lets_halves
 from touchall.parts import beside, parts, without
 from touchall.rows import bound_of, look_at_rows, worth_of
 from touchall.sets import cost_of, is_set, lean, left_by, needless
+from touchall.steps import after, back, fits, forth
 from touchall.texts import read_web, written_web
 from touchall.tight import is_tight
 from touchall.webs import look_at_web, near, places_of, price_of
@@ -33,7 +37,7 @@ def calls_on(web):
         told += [(ask, (web, given)) for ask in (left_by, cost_of, needless, lean)]
     text = written_web(web)
     told += [(written_web, (web,)), (read_web, (text,)), (read_web, (text + "\n",)), (read_web, ([text],))]
-    return told + calls_with_rows(web, some)
+    return told + calls_with_rows(web, some) + calls_with_halves(web) + calls_with_steps(web)
 
 
 def calls_with_rows(web, some):
@@ -42,6 +46,35 @@ def calls_with_rows(web, some):
     for given in (rows, rows + [("all", list(reversed(tie)), 1) for tie in web[1]], rows * 9, [None], [[]], None, []):
         told += [(ask, (web, given)) for ask in (look_at_rows, worth_of, bound_of)]
         told += [(is_tight, (web, given, some)), (is_tight, (web, given, [[1]]))]
+    return told
+
+
+def calls_with_halves(web):
+    paper = fixed_paper(web)
+    told = [(halves_of, (web,)), (fixed_paper, (web,)), (fixed_of, (web,)), (fixed_by, (paper[2],)),
+            (halves_cost, (web, paper[0]))]
+    for given in (paper[:2], (paper[0], paper[0]), ([], paper[1]), [list(paper[0]), paper[1]], None, ([[1]], [{}])):
+        told += [(lets_halves, (web, given))]
+    for given in (paper, paper[:2] + (paper[2] * 2,), paper[:2], paper[:2] + ([["loose", 1]],), None):
+        told += [(lets_fixed, (web, given))]
+    return told
+
+
+def some_steps(web):
+    found = [step for step in step_tries(web) if step_reads(web, step) is not None]
+    few = {step[0]: step for step in found}
+    return list(few.values()) + [("halves", halves_of(web))]
+
+
+def calls_with_steps(web):
+    whole = [place for place, _ in web[0]]
+    told = []
+    for step in some_steps(web) + [("lone", [1]), ("halves", ([[1]], [])), None, ["near", 1]]:
+        told += [(fits, (web, step)), (after, (web, step))]
+        read = step_reads(web, step)
+        small = [place for place, _ in read[0][0]] if read is not None else []
+        for some in (whole, small, [[1]], None):
+            told += [(back, (web, step, some)), (forth, (web, step, some))]
     return told
 
 
@@ -58,7 +91,9 @@ def refused_calls(web):
             (beside, (web, PATH)), (beside, (PATH, web)), (near, (web, 1)), (price_of, (web, 1)),
             (is_set, (web, [])), (left_by, (web, [])), (cost_of, (web, [])), (needless, (web, [])), (lean, (web, [])),
             (written_web, (web,)), (look_at_rows, (web, [])), (worth_of, (web, [])), (bound_of, (web, [])),
-            (is_tight, (web, [], []))]
+            (is_tight, (web, [], [])), (lets_halves, (web, ([], []))), (halves_cost, (web, [])), (halves_of, (web,)),
+            (lets_fixed, (web, ([], [], []))), (fixed_paper, (web,)), (fixed_of, (web,)), (fits, (web, ("lone", 1))),
+            (after, (web, ("lone", 1))), (back, (web, ("lone", 1), [])), (forth, (web, ("lone", 1), []))]
 
 
 def fields_of(error):

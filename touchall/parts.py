@@ -11,6 +11,10 @@ def web_of(web, kept):
     return (places, ties)
 
 
+def web_less(web, gone):
+    return web_of(web, marked([place for place, price in web[0] if place not in gone]))
+
+
 def hanging_with(nears, place):
     met = {place: True}
     todo = [place]
@@ -28,8 +32,7 @@ def without(web, some):
     prices = dict(web[0])
     for place in some:
         look_at_place(prices, place)
-    gone = marked(some)
-    return web_of(web, marked([place for place in prices if place not in gone]))
+    return web_less(web, marked(some))
 
 
 def parts(web):

@@ -2,7 +2,7 @@
 
 from touchall.errors import NoRows, Overpaid
 from touchall.kinds import is_list_up_to, is_tuple_of, is_whole
-from touchall.webs import look_at_web, nears_in
+from touchall.webs import are_places, look_at_web, nears_in
 
 MOST_ROWS = 200
 
@@ -27,7 +27,7 @@ def is_row(nears, thing):
         return False
     if not is_whole(thing[2]) or thing[2] < 1:
         return False
-    if not all([is_whole(place) and place in nears for place in thing[1]]):
+    if not are_places(nears, thing[1]):
         return False
     if thing[0] == "all":
         return is_all(nears, thing[1])
@@ -61,10 +61,18 @@ def given_for_one(row):
     return many - 1 if row[0] == "all" else (many + 1) // 2
 
 
-def worth_of(web, rows):
-    look_at_rows(web, rows)
+def given_by(rows):
     return sum([given_for_one(row) * row[2] for row in rows])
 
 
+def half_up(worth):
+    return (worth + 1) // 2
+
+
+def worth_of(web, rows):
+    look_at_rows(web, rows)
+    return given_by(rows)
+
+
 def bound_of(web, rows):
-    return (worth_of(web, rows) + 1) // 2
+    return half_up(worth_of(web, rows))

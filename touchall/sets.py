@@ -1,8 +1,8 @@
 """Sets of a web's places: what they touch, what they cost, what is needless in them."""
 
 from touchall.errors import NoSet
-from touchall.kinds import is_whole, marked
-from touchall.webs import look_at_web, nears_in
+from touchall.kinds import marked
+from touchall.webs import is_place, look_at_web, nears_in
 
 
 def is_set(web, thing):
@@ -12,7 +12,7 @@ def is_set(web, thing):
     prices = dict(web[0])
     last = -1
     for place in thing:
-        if not is_whole(place) or place not in prices or place <= last:
+        if not is_place(prices, place) or place <= last:
             return False
         last = place
     return True

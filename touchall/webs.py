@@ -50,8 +50,16 @@ def look_at_web(thing):
     look_at_ties(thing[1], dict(thing[0]))
 
 
+def is_place(prices, thing):
+    return is_whole(thing) and thing in prices
+
+
+def are_places(prices, things):
+    return all([is_place(prices, thing) for thing in things])
+
+
 def look_at_place(prices, thing):
-    if not is_whole(thing) or thing not in prices:
+    if not is_place(prices, thing):
         raise NoPlace(thing)
 
 
@@ -62,6 +70,10 @@ def nears_in(web):
         nears[one].append(other)
         nears[other].append(one)
     return nears
+
+
+def tie_of(one, other):
+    return (min(one, other), max(one, other))
 
 
 def places_of(web):
