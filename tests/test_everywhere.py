@@ -9,10 +9,14 @@ from touchall.fixed import fixed_by, fixed_of, fixed_paper, lets_fixed
 from touchall.halves import halves_cost, halves_of, lets_halves
 from touchall.parts import beside, parts, without
 from touchall.rows import bound_of, look_at_rows, worth_of
+from touchall.seeking import least_of
 from touchall.sets import cost_of, is_set, lean, left_by, needless
+from touchall.shrinking import fitting, made_small
 from touchall.steps import after, back, fits, forth
 from touchall.texts import read_web, written_web
 from touchall.tight import is_tight
+from touchall.trees import claim_of
+from touchall.walks import back_all, forth_all, walked
 from touchall.webs import look_at_web, near, places_of, price_of
 
 SHARED = []
@@ -37,7 +41,8 @@ def calls_on(web):
         told += [(ask, (web, given)) for ask in (left_by, cost_of, needless, lean)]
     text = written_web(web)
     told += [(written_web, (web,)), (read_web, (text,)), (read_web, (text + "\n",)), (read_web, ([text],))]
-    return told + calls_with_rows(web, some) + calls_with_halves(web) + calls_with_steps(web)
+    return (told + calls_with_rows(web, some) + calls_with_halves(web) + calls_with_steps(web)
+            + calls_with_walks(web) + calls_with_trees(web))
 
 
 def calls_with_rows(web, some):
@@ -78,6 +83,25 @@ def calls_with_steps(web):
     return told
 
 
+def calls_with_walks(web):
+    whole = [place for place, _ in web[0]]
+    steps = made_small(web)
+    told = [(fitting, (web,)), (made_small, (web,))]
+    for given in (steps, [], steps[:2], steps + [None], steps * 2, [("halves", halves_of(web))], None, [[1]]):
+        told.append((walked, (web, given)))
+        for some in (whole, [], [[1]], None):
+            told += [(back_all, (web, given, some)), (forth_all, (web, given, some))]
+    return told
+
+
+def calls_with_trees(web):
+    told = [(least_of, (web, most)) for most in (1, 3, 400)]
+    for most in (1, 3, 400):
+        tree = least_of(web, most)[-1]
+        told += [(claim_of, (web, tree)), (claim_of, (web, ("parts", [tree]))), (claim_of, (web, ("bound", [[1]])))]
+    return told
+
+
 def all_calls():
     webs = [EMPTY, PATH, TRIANGLE, SCATTERED, (SHARED, SHARED), ([(3, 4)], [])] + chance_webs(40) + BAD_WEBS
     calls = []
@@ -93,7 +117,9 @@ def refused_calls(web):
             (written_web, (web,)), (look_at_rows, (web, [])), (worth_of, (web, [])), (bound_of, (web, [])),
             (is_tight, (web, [], [])), (lets_halves, (web, ([], []))), (halves_cost, (web, [])), (halves_of, (web,)),
             (lets_fixed, (web, ([], [], []))), (fixed_paper, (web,)), (fixed_of, (web,)), (fits, (web, ("lone", 1))),
-            (after, (web, ("lone", 1))), (back, (web, ("lone", 1), [])), (forth, (web, ("lone", 1), []))]
+            (after, (web, ("lone", 1))), (back, (web, ("lone", 1), [])), (forth, (web, ("lone", 1), [])),
+            (walked, (web, [])), (back_all, (web, [], [])), (forth_all, (web, [], [])), (fitting, (web,)),
+            (made_small, (web,)), (claim_of, (web, ("bound", []))), (least_of, (web, 1))]
 
 
 def fields_of(error):

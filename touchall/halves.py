@@ -66,8 +66,8 @@ def halves_cost(web, halves):
     return cost_in_halves(web, halves)
 
 
-# Each place stands twice, once on either side, and each tie goes both ways across: so the cheapest halves are half of
-# a cheapest cut of the net, and what flows across for a tie is what is due for it.
+# Each place stands twice, once on either side, and each tie goes across both ways: so the cheapest halves cost just
+# what a cheapest cut of the net does, and what flows across for a tie is its due.
 def doubled(web):
     many = len(web[0])
     plenty = 1 + sum([price for place, price in web[0]])
@@ -86,8 +86,8 @@ def dues_flowing(web, flows):
     return [(tie[0], tie[1], amount) for tie, amount in zip(web[1], amounts) if amount > 0]
 
 
-# What the cut nearest to the source reaches, every cheapest cut's side of the source has: so a place has a nought or
-# a one here just where all cheapest halves have it.
+# What is reached from the source is on its side of every cheapest cut: so a place has a nought or a one here just
+# where all cheapest halves have the same one.
 def halves_reached(web, reached):
     many = len(web[0])
     halves = []
