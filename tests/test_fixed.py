@@ -300,7 +300,8 @@ class TestTold(FixedCase):
     def test_many_ties(self):
         rng = random.Random(56)
         for _ in range(12):
-            self.check(chance_web(rng, many=40, most_price=rng.choice([2, 9, 10 ** 10]), density=rng.choice([0.04, 0.1])))
+            density = rng.choice([0.04, 0.1])
+            self.check(chance_web(rng, many=40, most_price=rng.choice([2, 9, 10 ** 10]), density=density))
 
     def test_no_web(self):
         for thing in NO_WEBS:

@@ -114,6 +114,13 @@ class TestLanguage(unittest.TestCase):
             self.assertTrue(ready, "files draw from one another")
             done += ready
 
+    def test_what_is_imported_is_used(self):
+        for path, tree in self.each():
+            used = {node.id for node in ast.walk(tree) if isinstance(node, ast.Name)}
+            for node in tree.body:
+                if isinstance(node, ast.ImportFrom):
+                    self.assertLessEqual({alias.name for alias in node.names}, used, path.name)
+
     def test_top(self):
         for path, tree in self.each():
             names = bound_at_top(tree)

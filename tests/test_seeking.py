@@ -224,10 +224,12 @@ class TestGreatWebs(SeekingCase):
     def test_each_number_of_tuples(self):
         rng = random.Random(109)
         webs = [five_by_five(1), five_by_five(2), five_by_five(3), five_by_five(4)]
-        webs += [(priced(rng, kind, 10 * many), five_by_five(many)[1]) for kind in ("few", "close") for many in (1, 2, 4)]
+        webs += [(priced(rng, kind, 10 * many), five_by_five(many)[1])
+                 for kind in ("few", "close") for many in (1, 2, 4)]
         webs += [(priced(rng, kind, 20), circled(20, jumps)) for kind in ("alike", "close")
                  for jumps in ((1, 2), (1, 4, 6), (2, 3))]
-        webs += [between_one_another(2, 8, (1, 4)), between_one_another(3, 7, (1, 2)), between_one_another(4, 8, (1, 2))]
+        webs += [between_one_another(2, 8, (1, 4)), between_one_another(3, 7, (1, 2)),
+                 between_one_another(4, 8, (1, 2))]
         for web in webs:
             for most in range(1, 45):
                 self.check(web, most)

@@ -1,7 +1,6 @@
 """Trees of cases: what they claim, by which no touching set costs less."""
 
 from touchall.errors import NoRows, NoTree, Overpaid
-from touchall.kinds import is_tuple_of
 from touchall.parts import parts, web_less
 from touchall.rows import bound_of
 from touchall.rules import cost_near
