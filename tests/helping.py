@@ -267,3 +267,49 @@ def refusal(ask, *given):
     except ValueError as error:
         return (type(error), dict(vars(error)))
     return None
+
+
+def ring_of(many, price=1):
+    """A web of so many places, each tied to the next, the last to the first."""
+    return ([(k, price) for k in range(many)], sorted([(k, k + 1) for k in range(many - 1)] + [(0, many - 1)]))
+
+
+def renamed(web, names):
+    """A plain reading of the web called otherwise."""
+    return (sorted((names[place], price) for place, price in web[0]),
+            sorted(tuple(sorted((names[one], names[other]))) for one, other in web[1]))
+
+
+def mixed_up(rng, web):
+    """The web with its places' numbers in any order, anywhere from 0 to 999."""
+    numbers = rng.sample(range(1000), len(web[0]))
+    return renamed(web, dict(zip([place for place, _ in web[0]], numbers)))
+
+
+def grove(rng, many, most_price=1, roots=1, reach=None):
+    """A web without rings: each place but the first ones is tied to one ahead of it, at most so far ahead."""
+    places = [(k, rng.randint(1, most_price)) for k in range(many)]
+    ties = []
+    for k in range(roots, many):
+        least = 0 if reach is None else max(0, k - reach)
+        ties.append((rng.randrange(least, k), k))
+    return (places, sorted(ties))
+
+
+def beside_each_other(webs):
+    """All webs together, their places numbered anew so that none is in common."""
+    places, ties, start = [], [], 0
+    for web in webs:
+        names = {place: start + at for at, (place, _) in enumerate(web[0])}
+        moved = renamed(web, names)
+        places, ties, start = places + moved[0], ties + moved[1], start + len(web[0])
+    return (places, sorted(ties))
+
+
+def is_ring_of(web, ring):
+    """Whether it is a list of three or more unlike places, each tied to the next, the last to the first."""
+    if not isinstance(ring, list) or not all(is_number(place) for place in ring) or len(ring) < 3:
+        return False
+    ties = set(web[1])
+    return len(set(ring)) == len(ring) and all(
+        tuple(sorted((ring[at - 1], ring[at]))) in ties for at in range(len(ring)))

@@ -6,13 +6,17 @@ from tests.helping import (EMPTY, PATH, SCATTERED, TRIANGLE, alike, chance_webs,
                            step_tries)
 from touchall.errors import TouchError
 from touchall.fixed import fixed_by, fixed_of, fixed_paper, lets_fixed
+from touchall.forests import forest_least
 from touchall.halves import halves_cost, halves_of, lets_halves
+from touchall.pairing import pairing_of
 from touchall.parts import beside, parts, without
 from touchall.rows import bound_of, look_at_rows, worth_of
 from touchall.seeking import least_of
 from touchall.sets import cost_of, is_set, lean, left_by, needless
 from touchall.shrinking import fitting, made_small
+from touchall.sides import sides_of
 from touchall.steps import after, back, fits, forth
+from touchall.strings import edge_behind, sets_by_size, string_least
 from touchall.texts import read_web, written_web
 from touchall.tight import is_tight
 from touchall.trees import claim_of
@@ -42,7 +46,7 @@ def calls_on(web):
     text = written_web(web)
     told += [(written_web, (web,)), (read_web, (text,)), (read_web, (text + "\n",)), (read_web, ([text],))]
     return (told + calls_with_rows(web, some) + calls_with_halves(web) + calls_with_steps(web)
-            + calls_with_walks(web) + calls_with_trees(web))
+            + calls_with_walks(web) + calls_with_trees(web) + calls_of_shapes(web))
 
 
 def calls_with_rows(web, some):
@@ -102,6 +106,11 @@ def calls_with_trees(web):
     return told
 
 
+def calls_of_shapes(web):
+    told = [(ask, (web,)) for ask in (sides_of, pairing_of, forest_least, string_least, sets_by_size)]
+    return told + [(edge_behind, (web, place)) for place in [pair[0] for pair in web[0]] + [[1], None, True]]
+
+
 def all_calls():
     webs = [EMPTY, PATH, TRIANGLE, SCATTERED, (SHARED, SHARED), ([(3, 4)], [])] + chance_webs(40) + BAD_WEBS
     calls = []
@@ -119,7 +128,9 @@ def refused_calls(web):
             (lets_fixed, (web, ([], [], []))), (fixed_paper, (web,)), (fixed_of, (web,)), (fits, (web, ("lone", 1))),
             (after, (web, ("lone", 1))), (back, (web, ("lone", 1), [])), (forth, (web, ("lone", 1), [])),
             (walked, (web, [])), (back_all, (web, [], [])), (forth_all, (web, [], [])), (fitting, (web,)),
-            (made_small, (web,)), (claim_of, (web, ("bound", []))), (least_of, (web, 1))]
+            (made_small, (web,)), (claim_of, (web, ("bound", []))), (least_of, (web, 1)), (sides_of, (web,)),
+            (pairing_of, (web,)), (forest_least, (web,)), (edge_behind, (web, 1)), (string_least, (web,)),
+            (sets_by_size, (web,))]
 
 
 def fields_of(error):
@@ -149,6 +160,15 @@ class TestEverywhere(unittest.TestCase):
             kind, told = answer(ask, given)
             if kind == "told":
                 found = [id(one) for one in lists_in(told)]
+                self.assertEqual(len(found), len(set(found)), ask.__name__)
+                self.assertFalse(set(found) & {id(one) for one in lists_in(given)}, ask.__name__)
+
+    def test_lists_of_refusals_are_new_and_shared_by_no_two_places(self):
+        for ask, given in all_calls():
+            kind, told = answer(ask, given)
+            # What was handed in as a place is told as it is.
+            if kind == "refused" and told[0] != "NoPlace":
+                found = [id(one) for one in lists_in(list(told[1].values()))[1:]]
                 self.assertEqual(len(found), len(set(found)), ask.__name__)
                 self.assertFalse(set(found) & {id(one) for one in lists_in(given)}, ask.__name__)
 

@@ -1,5 +1,10 @@
 """Largest flows from a source to a sink, and what is still reached when they are there."""
 
+SOURCE = 0
+SINK = 1
+# Of nets made of webs the knots of the places stand behind the source and the sink.
+FIRST = 2
+
 
 class Net:
     # Arcs are tuples (tail, head, room) between knots from 0 on. Arc k stands twice: as way 2 * k with the room

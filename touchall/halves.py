@@ -1,13 +1,8 @@
 """Halves of a web: noughts, halves and ones, with dues that show that none cost less."""
 
-from touchall.flows import Net
+from touchall.flows import FIRST, SINK, SOURCE, Net
 from touchall.kinds import is_pair_of_wholes, is_tuple_of, is_whole, marked
 from touchall.webs import look_at_web
-
-SOURCE = 0
-SINK = 1
-# The knots of the places stand behind the source and the sink.
-FIRST = 2
 
 
 def halves_stand(web, thing):
