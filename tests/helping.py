@@ -313,3 +313,54 @@ def is_ring_of(web, ring):
     ties = set(web[1])
     return len(set(ring)) == len(ring) and all(
         tuple(sorted((ring[at - 1], ring[at]))) in ties for at in range(len(ring)))
+
+
+def many_tuples(tree):
+    if tree[0] == "bound":
+        return 1
+    if tree[0] == "step":
+        return 1 + many_tuples(tree[2])
+    if tree[0] == "parts":
+        return 1 + sum(many_tuples(one) for one in tree[1])
+    return 1 + many_tuples(tree[2]) + many_tuples(tree[3])
+
+
+def circled(many, jumps):
+    """A ring with ties across: each place tied to those so many further on."""
+    return sorted({tuple(sorted((k, (k + jump) % many))) for k in range(many) for jump in jumps if jump % many})
+
+
+def between_one_another(many, size, jumps):
+    """So many parts of one form, their places between those of the others."""
+    ties = sorted((many * a + at, many * b + at) for at in range(many) for a, b in circled(size, jumps))
+    return ([(k, 1) for k in range(many * size)], ties)
+
+
+def five_by_five(many):
+    """So many parts of ten places, each near three others, without a ring of fewer than five."""
+    one = sorted([(k, k + 1) for k in range(4)] + [(0, 4)] + [(k, k + 5) for k in range(5)]
+                 + [tuple(sorted((5 + k, 5 + (k + 2) % 5))) for k in range(5)])
+    ties = [(10 * at + a, 10 * at + b) for at in range(many) for a, b in one]
+    return ([(k, 1) for k in range(10 * many)], ties)
+
+
+def chance_rows(rng, web):
+    """Rows that stand, as great as their places let them be."""
+    prices = {place: 2 * price for place, price in web[0]}
+    tied = set(web[1]) | {(b, a) for a, b in web[1]}
+    found = []
+    for _ in range(12):
+        size = rng.choice([2, 2, 3, 3, 4, 5])
+        if size > len(prices):
+            continue
+        some = rng.sample(sorted(prices), size)
+        ring = size % 2 == 1 and all((some[k - 1], some[k]) in tied for k in range(size))
+        full = all(pair in tied for pair in itertools.combinations(sorted(some), 2))
+        room = min(prices[place] for place in some)
+        if room and (ring or full):
+            amount = rng.randint(1, room)
+            word = "ring" if ring and (not full or rng.random() < 0.5) else "all"
+            found.append((word, sorted(some) if word == "all" else some, amount))
+            for place in some:
+                prices[place] -= amount
+    return found

@@ -4,10 +4,15 @@ import unittest
 
 from tests.helping import (EMPTY, PATH, SCATTERED, TRIANGLE, alike, chance_webs, copied, lists_in, step_reads,
                            step_tries)
+from touchall.calls import (called_chain, called_dues, called_halves, called_rows, called_set, called_step,
+                            called_tree, called_web, calls_back, look_at_calls)
+from touchall.edges import edge_of, lets_edge
 from touchall.errors import TouchError
 from touchall.fixed import fixed_by, fixed_of, fixed_paper, lets_fixed
 from touchall.forests import forest_least
 from touchall.halves import halves_cost, halves_of, lets_halves
+from touchall.keeper import Keeper
+from touchall.listing import all_least
 from touchall.pairing import pairing_of
 from touchall.parts import beside, parts, without
 from touchall.rows import bound_of, look_at_rows, worth_of
@@ -46,7 +51,8 @@ def calls_on(web):
     text = written_web(web)
     told += [(written_web, (web,)), (read_web, (text,)), (read_web, (text + "\n",)), (read_web, ([text],))]
     return (told + calls_with_rows(web, some) + calls_with_halves(web) + calls_with_steps(web)
-            + calls_with_walks(web) + calls_with_trees(web) + calls_of_shapes(web))
+            + calls_with_walks(web) + calls_with_trees(web) + calls_of_shapes(web) + calls_with_edges(web)
+            + calls_with_calls(web))
 
 
 def calls_with_rows(web, some):
@@ -108,7 +114,33 @@ def calls_with_trees(web):
 
 def calls_of_shapes(web):
     told = [(ask, (web,)) for ask in (sides_of, pairing_of, forest_least, string_least, sets_by_size)]
+    told += [(all_least, (web, most)) for most in (1, 2, 200)]
     return told + [(edge_behind, (web, place)) for place in [pair[0] for pair in web[0]] + [[1], None, True]]
+
+
+def calls_with_edges(web):
+    told = [(edge_of, (web, [1], 400)), (lets_edge, (web, [1], None))]
+    for place, _ in web[0][:2]:
+        thing = edge_of(web, place, 400)
+        told += [(edge_of, (web, place, most)) for most in (1, 400)]
+        told += [(lets_edge, (web, place, one)) for one in (thing, thing[:5] + (None, [[1]]), [thing], ([], []))]
+    return told
+
+
+def calls_with_calls(web):
+    numbers = [place for place, _ in web[0]]
+    calls = [(place, 999 - place) for place in numbers]
+    paper = fixed_paper(web)
+    row = ("all", list(web[1][0]), 1) if web[1] else None
+    rows = [row, row] if row else []
+    told = [(look_at_calls, (web, [[1]])), (called_web, (web, [[1]])), (called_tree, (web, [[1]], [[1]]))]
+    told += [(ask, (web, calls)) for ask in (look_at_calls, calls_back, called_web)]
+    told += [(called_set, (web, calls, numbers)), (called_rows, (web, calls, rows)),
+             (called_halves, (web, calls, paper[0])), (called_dues, (web, calls, paper[1])),
+             (called_chain, (web, calls, paper[2])), (called_tree, (web, calls, ("bound", rows))),
+             (called_tree, (web, calls, least_of(web, 400)[-1])),
+             (called_tree, (web, calls, ("parts", [("bound", SHARED)] * len(parts(web)))))]
+    return told + [(called_step, (web, calls, step)) for step in some_steps(web)]
 
 
 def all_calls():
@@ -130,7 +162,11 @@ def refused_calls(web):
             (walked, (web, [])), (back_all, (web, [], [])), (forth_all, (web, [], [])), (fitting, (web,)),
             (made_small, (web,)), (claim_of, (web, ("bound", []))), (least_of, (web, 1)), (sides_of, (web,)),
             (pairing_of, (web,)), (forest_least, (web,)), (edge_behind, (web, 1)), (string_least, (web,)),
-            (sets_by_size, (web,))]
+            (sets_by_size, (web,)), (all_least, (web, 1)), (edge_of, (web, 1, 1)), (lets_edge, (web, 1, None)),
+            (look_at_calls, (web, [])), (calls_back, (web, [])), (called_web, (web, [])), (called_set, (web, [], [])),
+            (called_rows, (web, [], [])), (called_halves, (web, [], [])), (called_dues, (web, [], [])),
+            (called_chain, (web, [], [])), (called_step, (web, [], ("lone", 1))),
+            (called_tree, (web, [], ("bound", []))), (Keeper, (web,))]
 
 
 def fields_of(error):

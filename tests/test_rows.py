@@ -2,8 +2,8 @@ import itertools
 import random
 import unittest
 
-from tests.helping import (ANYTHING, EMPTY, NO_WEBS, PATH, SCATTERED, TRIANGLE, alike, all_sets, chance_web, cost,
-                           least_cost, touches)
+from tests.helping import (ANYTHING, EMPTY, NO_WEBS, PATH, SCATTERED, TRIANGLE, alike, all_sets, chance_rows,
+                           chance_web, cost, least_cost, touches)
 from touchall.errors import NoRows, NoSet, NoWeb, Overpaid
 from touchall.rows import bound_of, look_at_rows, worth_of
 from touchall.tight import is_tight
@@ -268,28 +268,6 @@ class TestTight(unittest.TestCase):
             if not alike(thing, []) and not alike(thing, [1]):
                 with self.assertRaises(NoSet):
                     is_tight(PATH, [], thing)
-
-
-def chance_rows(rng, web):
-    """Rows that stand, as great as their places let them be."""
-    prices = {place: 2 * price for place, price in web[0]}
-    tied = set(web[1]) | {(b, a) for a, b in web[1]}
-    found = []
-    for _ in range(12):
-        size = rng.choice([2, 2, 3, 3, 4, 5])
-        if size > len(prices):
-            continue
-        some = rng.sample(sorted(prices), size)
-        ring = size % 2 == 1 and all((some[k - 1], some[k]) in tied for k in range(size))
-        full = all(pair in tied for pair in itertools.combinations(sorted(some), 2))
-        room = min(prices[place] for place in some)
-        if room and (ring or full):
-            amount = rng.randint(1, room)
-            word = "ring" if ring and (not full or rng.random() < 0.5) else "all"
-            found.append((word, sorted(some) if word == "all" else some, amount))
-            for place in some:
-                prices[place] -= amount
-    return found
 
 
 class TestShown(unittest.TestCase):

@@ -3,8 +3,8 @@ import random
 import time
 import unittest
 
-from tests.helping import (EMPTY, NO_WEBS, PATH, SCATTERED, TRIANGLE, alike, chance_web, cost, least_cost, line_of,
-                           lists_in, touches)
+from tests.helping import (EMPTY, NO_WEBS, PATH, SCATTERED, TRIANGLE, alike, between_one_another, chance_web, circled,
+                           cost, five_by_five, least_cost, line_of, lists_in, many_tuples, touches)
 from touchall.errors import NoWeb
 from touchall.halves import halves_cost, halves_of
 from touchall.parts import beside
@@ -17,23 +17,8 @@ from touchall.webs import nears_in
 FEW = (1, 2, 3, 5, 8, 13, 400, 1000)
 
 
-def many_tuples(tree):
-    if tree[0] == "bound":
-        return 1
-    if tree[0] == "step":
-        return 1 + many_tuples(tree[2])
-    if tree[0] == "parts":
-        return 1 + sum(many_tuples(one) for one in tree[1])
-    return 1 + many_tuples(tree[2]) + many_tuples(tree[3])
-
-
 def ring_ties(many):
     return sorted([(k, k + 1) for k in range(many - 1)] + [(0, many - 1)])
-
-
-def circled(many, jumps):
-    """A ring with ties across: each place tied to those so many further on."""
-    return sorted({tuple(sorted((k, (k + jump) % many))) for k in range(many) for jump in jumps if jump % many})
 
 
 def priced(rng, kind, many):
@@ -53,20 +38,6 @@ def shapes(rng, many):
     yield [pair for pair in pairs if (pair[0] + pair[1]) % 2][:120]
     for density in (0.2, 0.35, 0.5, 0.7, 0.9):
         yield [pair for pair in pairs if rng.random() < density][:120]
-
-
-def between_one_another(many, size, jumps):
-    """So many parts of one form, their places between those of the others."""
-    ties = sorted((many * a + at, many * b + at) for at in range(many) for a, b in circled(size, jumps))
-    return ([(k, 1) for k in range(many * size)], ties)
-
-
-def five_by_five(many):
-    """So many parts of ten places, each near three others, without a ring of fewer than five."""
-    one = sorted([(k, k + 1) for k in range(4)] + [(0, 4)] + [(k, k + 5) for k in range(5)]
-                 + [tuple(sorted((5 + k, 5 + (k + 2) % 5))) for k in range(5)])
-    ties = [(10 * at + a, 10 * at + b) for at in range(many) for a, b in one]
-    return ([(k, 1) for k in range(10 * many)], ties)
 
 
 class SeekingCase(unittest.TestCase):

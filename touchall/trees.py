@@ -11,28 +11,28 @@ MOST_TUPLES = 1000
 MOST_WITHIN = 100
 
 
-# A case is a tuple (word, added, kids): kids are pairs of a web and what is to be a tree for it. None is told where
+# A case is a tuple (thing, added, kids): kids are pairs of a web and what is to be a tree for it. None is told where
 # the thing can't stand, whatever its trees are.
 def bound_case(web, thing):
     try:
         claim = bound_of(web, thing[1])
     except (NoRows, Overpaid):
         return None
-    return ("bound", [claim], [])
+    return (thing, [claim], [])
 
 
 def step_case(web, thing):
     if not fits_known(web, thing[1]):
         return None
     told = after_known(web, thing[1])
-    return ("step", [told[1]], [(told[0], thing[2])])
+    return (thing, [told[1]], [(told[0], thing[2])])
 
 
 def parts_case(web, thing):
     pieces = parts(web)
     if not isinstance(thing[1], list) or len(thing[1]) != len(pieces):
         return None
-    return ("parts", [], list(zip(pieces, thing[1])))
+    return (thing, [], list(zip(pieces, thing[1])))
 
 
 def split_case(web, thing):
@@ -42,7 +42,7 @@ def split_case(web, thing):
     v = thing[1]
     nears = nears_in(web)
     kids = [(web_less(web, [v]), thing[2]), (web_less(web, nears[v] + [v]), thing[3])]
-    return ("split", [prices[v], cost_near(prices, nears, v)], kids)
+    return (thing, [prices[v], cost_near(prices, nears, v)], kids)
 
 
 def case_of(web, thing):
@@ -88,7 +88,7 @@ def claim_of(web, tree):
     look_at_web(web)
     # Gone through from the last one, each case finds what its trees claim, the first one on top.
     ready = []
-    for word, added, kids in reversed(cases_of(web, tree)):
+    for thing, added, kids in reversed(cases_of(web, tree)):
         claims = [ready.pop() for kid in kids]
-        ready.append(claim_by(word, added, claims))
+        ready.append(claim_by(thing[0], added, claims))
     return ready.pop()
