@@ -25,6 +25,7 @@ WORDS_OUT = re.compile(r"\b(type|typing|typing_extensions|enum|Enum|IntEnum|StrE
                        r"|dataclass|overload|contextmanager")
 NAMES_OUT = {"register", "mro", "elements", "open", "input", "version_info", "with_traceback", "add_note", "format",
              "format_map", "sort", "chr", "sys"}
+CHANGES = {"append", "clear", "extend", "insert", "pop", "remove", "reverse", "setdefault", "update"}
 WALKED_AT_ONCE = {"zip", "enumerate", "reversed", "range"}
 WALKERS = {"list", "tuple", "dict", "sorted", "sum", "any", "all", "enumerate", "zip", "min", "max"}
 
@@ -213,6 +214,33 @@ class TestLanguage(unittest.TestCase):
                     above = parents[node]
                     walked = isinstance(above, (ast.For, ast.comprehension)) and above.iter is node
                     self.assertTrue(walked or called(above) in WALKERS, f"{path.name}:{node.lineno}")
+
+    def test_what_a_loop_walks_is_not_changed_in_it(self):
+        for path, tree in self.each():
+            for node in ast.walk(tree):
+                if isinstance(node, ast.For):
+                    walked = {part.id for part in ast.walk(node.iter) if isinstance(part, ast.Name)}
+                    for part in [part for row in node.body for part in ast.walk(row)]:
+                        where = f"{path.name}:{getattr(part, 'lineno', 0)}"
+                        if method(part) in CHANGES and isinstance(part.func.value, ast.Name):
+                            self.assertNotIn(part.func.value.id, walked, where)
+                        if isinstance(part, ast.Subscript) and isinstance(part.ctx, ast.Store):
+                            self.assertNotIn(getattr(part.value, "id", None), walked, where)
+
+    def test_methods_and_values_of_objects(self):
+        methods, values = [], set()
+        for path, tree in self.each():
+            for node in ast.walk(tree):
+                if isinstance(node, ast.ClassDef):
+                    names = [part.name for part in node.body if isinstance(part, ast.FunctionDef)]
+                    self.assertEqual(len(names), len(set(names)))
+                    methods += names
+                if isinstance(node, ast.Attribute) and isinstance(node.ctx, ast.Store):
+                    self.assertEqual(getattr(node.value, "id", None), "self", path.name)
+                    values.add(node.attr)
+        self.assertFalse(set(methods) & values)
+        own = {name for kind in (str, int, list, dict, set, bytes, tuple) for name in dir(kind)}
+        self.assertFalse((set(methods) - {"__init__"} | values) & own)
 
     def test_sets_are_not_kept(self):
         for path, tree in self.each():
